@@ -62,7 +62,7 @@ func TestBeforeOfPending(t *testing.T) {
 	apart(t, span(-1, 0), span(1, 2))
 }
 
-// P18.2: only the places count.
+// P18.2: of calls that Ops answers only the places count.
 func TestBeforeAsksForPlacesAlone(t *testing.T) {
 	a := hist.Op{Thread: 1, Call: written(1), Result: came(1), From: 0, To: 1}
 	for _, b := range []hist.Op{{Thread: 1, Call: written(1), Result: came(1)}, {Thread: 0}, {Thread: 2, Call: written(2)}, {Thread: -1, Result: came(3)}} {
@@ -83,6 +83,53 @@ func TestNoCallIsBeforeItself(t *testing.T) {
 				t.Errorf("Serial of a call and itself, %d to %d", from, to)
 			}
 		}
+	}
+}
+
+// turnedCalls answers calls of the same places, each of which has one thing that the first has not.
+func turnedCalls(from, to int) []hist.Op {
+	one := func() hist.Op {
+		return hist.Op{Thread: 1, Call: written(1), Result: full(), From: from, To: to}
+	}
+	l := []hist.Op{one()}
+	for _, turn := range []func(*hist.Op){
+		func(o *hist.Op) { o.Thread = 2 },
+		func(o *hist.Op) { o.Call.Op = api.Read },
+		func(o *hist.Op) { o.Call.Path = "/q" },
+		func(o *hist.Op) { o.Call.To = "" },
+		func(o *hist.Op) { o.Call.Fd = 7 },
+		func(o *hist.Op) { o.Call.Flags = 7 },
+		func(o *hist.Op) { o.Call.Mode = 7 },
+		func(o *hist.Op) { o.Call.N = 7 },
+		func(o *hist.Op) { o.Call.M = 7 },
+		func(o *hist.Op) { o.Call.Data = nil },
+		func(o *hist.Op) { o.Call.Data[1] = 8 },
+		func(o *hist.Op) { o.Result = api.Result{} },
+		func(o *hist.Op) { o.Result.Names[2] = " " },
+	} {
+		o := one()
+		turn(&o)
+		l = append(l, o)
+	}
+	return l
+}
+
+// P18.2: of two calls that are not the same each had Returned when the other was Called, if their To is below their From, which is the same.
+func TestBeforeOfTwoOfTheSamePlaces(t *testing.T) {
+	for i, a := range turnedCalls(5, 1) {
+		for k, b := range turnedCalls(5, 1) {
+			before(t, a, b, i != k)
+			serial(t, i != k, a, b)
+		}
+	}
+	serial(t, true, turnedCalls(5, 1)[:4]...)
+	serial(t, false, append(turnedCalls(5, 1)[:3], turnedCalls(5, 1)[1])...)
+	serial(t, true, append(turnedCalls(5, 1)[:3], span(0, 0), span(6, 7))...)
+	serial(t, false, append(turnedCalls(5, 1)[:3], span(1, 5))...)
+	for _, to := range []int{5, 9, -1} {
+		l := turnedCalls(5, to)
+		atOnce(t, l[0], l[1])
+		serial(t, false, l[:2]...)
 	}
 }
 

@@ -58,7 +58,7 @@ func told(l []api.Event) ([]hist.Op, api.Errno, int) {
 
 // toldBefore is the chapter's words of Before, with its second example.
 func toldBefore(a, b hist.Op) bool {
-	if a.From == b.From && a.To == b.To {
+	if same(a, b) {
 		return false
 	}
 	return a.To > -1 && b.From > a.To
@@ -170,12 +170,12 @@ func TestOpsOfLongRows(t *testing.T) {
 	}
 }
 
-// P18.2: Before and Serial of each two and each three calls of a few places, be they such as Ops answers or not.
+// P18.2: Before and Serial of each two and each three calls of two threads and a few places, be they such as Ops answers or not.
 func TestOrderOfFewCalls(t *testing.T) {
 	var all []hist.Op
-	for from := range 5 {
-		for to := -2; to < 6; to++ {
-			all = append(all, span(from, to))
+	for from := range 4 {
+		for to := -2; to < 5; to++ {
+			all = append(all, span(from, to), hist.Op{Thread: 1, From: from, To: to})
 		}
 	}
 	for _, a := range all {
